@@ -1,0 +1,79 @@
+"""What the tests share: exact comparison, exact errors, and wrong values of every kind."""
+
+import copy
+import unittest
+
+NESTED = ()
+for _ in range(29):
+    NESTED = (NESTED,)
+
+NO_INTS = (
+    True, False, None, "", "4", "a", (), (4,), (4, 5), [], [4], {}, {4: 4}, {"width": 4},
+    ((4,),), [[4]], ({}, [None, "x"]), NESTED,
+)
+NO_TUPLES = (
+    True, False, None, 0, 1, 5, -1, "", "12", [], [1], [1, 2], [(1, 2)], {}, {1: 2}, {"a": (1,)}, [[]],
+)
+NO_WIDTHS = (0, 17, 18, -1, -16, 10 ** 30, -10 ** 30) + NO_INTS
+
+
+def no_addresses(width):
+    """Values that are not addresses of the width."""
+    return (1 << width, (1 << width) + 1, -1, -2, 10 ** 40, -10 ** 40) + NO_INTS
+
+
+def no_vectors(width, most):
+    """Values that are not tuples of at most so many addresses of the width."""
+    wrong = list(NO_TUPLES)
+    wrong.append((0,) * (most + 1))
+    wrong.append((1,) * (most + 2))
+    for item in no_addresses(width):
+        wrong += [(item,), (1, item), (item, 1), (0, 1, item, 1)]
+    return tuple(wrong)
+
+
+def spanned(vectors):
+    """The span, straight from its definition."""
+    found = {0}
+    for vector in vectors:
+        found |= {one ^ vector for one in found}
+    return found
+
+
+def least_basis(space):
+    """The basis of a space, straight from its definition."""
+    tops = sorted({one.bit_length() for one in space if one})
+    return tuple(min(one for one in space if one.bit_length() == top) for top in tops)
+
+
+def odd(number):
+    return bin(number).count("1") % 2
+
+
+def kinds(value):
+    """The classes of a value and of all that it holds (repr would not do: it refuses very great ints)."""
+    if isinstance(value, dict):
+        return [dict, [(kinds(key), kinds(held)) for key, held in value.items()]]
+    if isinstance(value, (tuple, list)):
+        return [value.__class__, [kinds(item) for item in value]]
+    return value.__class__
+
+
+class Case(unittest.TestCase):
+    def same(self, result, expected):
+        """Equal, and of the same kinds throughout: True is not 1, and a list is not a tuple."""
+        self.assertEqual(result, expected)
+        self.assertEqual(kinds(result), kinds(expected))
+
+    def fails(self, error, function, /, *args, **named):
+        """The call raises exactly this class, and leaves its arguments as they were."""
+        before = copy.deepcopy((args, named))
+        with self.assertRaises(error) as caught:
+            function(*args, **named)
+        self.assertIs(caught.exception.__class__, error)
+        self.same((args, named), before)
+        return caught.exception
+
+    def fails_with(self, error, value, function, /, *args, **named):
+        """The call raises exactly this class with the very value."""
+        self.assertIs(self.fails(error, function, *args, **named).value, value)

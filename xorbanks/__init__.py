@@ -1,0 +1,1 @@
+"""Xorbanks: bank maps whose bits are XORs of address bits."""
