@@ -51,8 +51,8 @@ def bank_count(width, masks):
 def joined(width, *maps):
     """Return the map with the masks of all maps, one map after the other."""
     check_width(width)
-    for masks in maps:
-        check_map(width, masks)
+    for given in maps:
+        check_map(width, given)
     result = tuple([mask for masks in maps for mask in masks])
     check_map(width, result)
     return result
