@@ -15,6 +15,8 @@ NO_TUPLES = (
     True, False, None, 0, 1, 5, -1, "", "12", [], [1], [1, 2], [(1, 2)], {}, {1: 2}, {"a": (1,)}, [[]],
 )
 NO_WIDTHS = (0, 17, 18, -1, -16, 10 ** 30, -10 ** 30) + NO_INTS
+NO_SMALL_WIDTHS = (7, 8, 16) + NO_WIDTHS
+NO_BITS = (-1, 17, 18, -16, 10 ** 30, -10 ** 30) + NO_INTS
 
 
 def no_addresses(width):
@@ -29,6 +31,36 @@ def no_vectors(width, most):
     wrong.append((1,) * (most + 2))
     for item in no_addresses(width):
         wrong += [(item,), (1, item), (item, 1), (0, 1, item, 1)]
+    return tuple(wrong)
+
+
+def no_group(width):
+    """Values that are not groups of the width."""
+    top = (1 << width) - 1
+    wrong = list(NO_TUPLES) + [(), (1, 0), (0, 0), (1, 1), (0, 1, 1), (top, 0), (0, top, top), [0, 1], [0]]
+    for item in no_addresses(width):
+        wrong += [(item,), (0, item), (item, 1), (0, 1, item)]
+    if width > 6:
+        wrong += [tuple(range(65)), tuple(range(top - 65, top))]
+    return tuple(wrong)
+
+
+def no_groups(width):
+    """Values that are not groups, in the plural, of the width."""
+    wrong = list(NO_TUPLES) + [(0, 1), [(0, 1)], ([0, 1],), (((0, 1),),), ((0,),) * 21, ((0, 1),) * 22]
+    for group in no_group(width):
+        wrong += [(group,), ((0, 1), group), (group, (0,)), ((0,),) * 19 + (group,)]
+    return tuple(wrong)
+
+
+def no_differences(width):
+    """Values that are not differences of the width."""
+    top = (1 << width) - 1
+    wrong = list(NO_TUPLES) + [(0,), (0, 1), (1, 0), (1, 1), (top, top), tuple(range(top + 1)), (top, 0), [top]]
+    if width > 1:
+        wrong += [(2, 1), (1, 2, 2), (1, 3, 2), tuple(range(top, 0, -1))]
+    for item in no_addresses(width):
+        wrong += [(item,), (1, item), (item, 1), (1, item, top)]
     return tuple(wrong)
 
 
@@ -77,3 +109,14 @@ class Case(unittest.TestCase):
     def fails_with(self, error, value, function, /, *args, **named):
         """The call raises exactly this class with the very value."""
         self.assertIs(self.fails(error, function, *args, **named).value, value)
+
+    def refuses(self, function, *parameters):
+        """Each parameter, a tuple (name, good value, error, wrong values), is refused, the first one first."""
+        names = [name for name, _, _, _ in parameters]
+        good = [value for _, value, _, _ in parameters]
+        for at, (_, _, error, values) in enumerate(parameters):
+            for index, value in enumerate(values):
+                later = [wrong[index % len(wrong)] for _, _, _, wrong in parameters[at + 1:]]
+                for arguments in (good[:at] + [value] + good[at + 1:], good[:at] + [value] + later):
+                    self.fails_with(error, value, function, *arguments)
+                    self.fails_with(error, value, function, **dict(zip(names, arguments)))

@@ -21,6 +21,36 @@ INTERFACE = {
         "completed": "(width, masks)",
         "inverse": "(width, masks)",
     },
+    "groups": {
+        "is_group": "(width, value)",
+        "are_groups": "(width, value)",
+        "differences": "(width, groups)",
+        "strided": "(width, start, step, count)",
+        "block": "(width, start, vectors)",
+        "as_block": "(width, group)",
+    },
+    "conflicts": {
+        "degrees": "(width, masks, groups)",
+        "cycles": "(width, masks, groups)",
+        "is_free": "(width, masks, groups)",
+        "conflicts": "(width, masks, groups)",
+        "first_conflict": "(width, masks, groups)",
+        "hidden": "(width, masks, differences)",
+    },
+    "counting": {
+        "polynomial": "(width, differences)",
+        "value_at": "(coefficients, number)",
+        "count_maps": "(width, differences, bits)",
+        "least_bits": "(width, differences)",
+        "kernel_counts": "(width, differences)",
+        "contracted": "(width, differences, address)",
+    },
+    "cases": {
+        "free_map": "(width, differences, bits)",
+        "division": "(width, differences, bits)",
+        "shows_division": "(width, differences, bits, value)",
+        "ends": "(value)",
+    },
 }
 ERRORS = (
     "BankError InvalidWidth InvalidVectors InvalidMap InvalidAddress InvalidGroup InvalidGroups"

@@ -1,10 +1,22 @@
-"""What an int, a width, an address, vectors and a map are, and the common errors."""
+"""What an int, a width, an address, vectors, a map, groups and the like are, and the common errors."""
 
-from xorbanks.errors import InvalidAddress, InvalidMap, InvalidVectors, InvalidWidth
+from xorbanks.errors import (
+    InvalidAddress,
+    InvalidBits,
+    InvalidDifferences,
+    InvalidGroup,
+    InvalidGroups,
+    InvalidMap,
+    InvalidVectors,
+    InvalidWidth,
+)
 
 MOST_WIDTH = 16
+MOST_SMALL_WIDTH = 6
 MOST_VECTORS = 64
 MOST_MASKS = 16
+MOST_IN_GROUP = 64
+MOST_GROUPS = 20
 
 
 def is_int(value):
@@ -28,8 +40,38 @@ def are_masks(width, value):
     return are_addresses(width, value, MOST_MASKS)
 
 
+def are_ascending(width, value, most):
+    """Whether any value is an ascending tuple of at most so many different addresses."""
+    if not are_addresses(width, value, most):
+        return False
+    return all([one < other for one, other in zip(value, value[1:])])
+
+
+def is_group_of(width, value):
+    """Whether any value is a group of a width that is checked already."""
+    return are_ascending(width, value, MOST_IN_GROUP) and len(value) > 0
+
+
+def are_groups_of(width, value):
+    """Whether any value is groups of a width that is checked already."""
+    if not isinstance(value, tuple) or len(value) > MOST_GROUPS:
+        return False
+    return all([is_group_of(width, item) for item in value])
+
+
+def are_differences_of(width, value):
+    """Whether any value is differences of a width that is checked already."""
+    # What ascends from 1 holds no 0 further on.
+    return are_ascending(width, value, 1 << width) and value[:1] != (0,)
+
+
 def check_width(width):
     if not is_int(width) or not 1 <= width <= MOST_WIDTH:
+        raise InvalidWidth(width)
+
+
+def check_small_width(width):
+    if not is_int(width) or not 1 <= width <= MOST_SMALL_WIDTH:
         raise InvalidWidth(width)
 
 
@@ -46,3 +88,23 @@ def check_map(width, masks):
 def check_address(width, address):
     if not is_address(width, address):
         raise InvalidAddress(address)
+
+
+def check_group(width, group):
+    if not is_group_of(width, group):
+        raise InvalidGroup(group)
+
+
+def check_groups(width, groups):
+    if not are_groups_of(width, groups):
+        raise InvalidGroups(groups)
+
+
+def check_differences(width, differences):
+    if not are_differences_of(width, differences):
+        raise InvalidDifferences(differences)
+
+
+def check_bits(bits):
+    if not is_int(bits) or not 0 <= bits <= MOST_MASKS:
+        raise InvalidBits(bits)

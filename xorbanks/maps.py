@@ -5,6 +5,11 @@ from xorbanks.errors import Dependent, InvalidMap, NotInvertible
 from xorbanks.vectors import orthogonal, parity, powers, reduced, remainder
 
 
+def bank_of(masks, address):
+    """Return the bank of a checked address under checked masks."""
+    return sum([parity(address & mask) << index for index, mask in enumerate(masks)])
+
+
 def are_independent(masks):
     return len(reduced(masks)) == len(masks)
 
@@ -31,7 +36,7 @@ def bank(width, masks, address):
     check_width(width)
     check_map(width, masks)
     check_address(width, address)
-    return sum([parity(address & mask) << index for index, mask in enumerate(masks)])
+    return bank_of(masks, address)
 
 
 def kernel(width, masks):

@@ -34,6 +34,14 @@ def reduced(vectors):
     return tuple(sorted(rows))
 
 
+def combined(rows):
+    """Return the XORs of all choices among independent rows, ascending."""
+    made = [0]
+    for row in rows:
+        made = made + [row ^ one for one in made]
+    return tuple(sorted(made))
+
+
 def highest_bit(number):
     """Return the value of the highest one bit of an int from 1."""
     return 1 << (number.bit_length() - 1)
@@ -81,10 +89,7 @@ def span(width, vectors):
     rows = basis(width, vectors)
     if (1 << len(rows)) > MOST_SPANNED:
         raise TooMany(MOST_SPANNED)
-    spanned = [0]
-    for row in rows:
-        spanned = spanned + [address ^ row for address in spanned]
-    return tuple(sorted(spanned))
+    return combined(rows)
 
 
 def annihilator(width, vectors):
