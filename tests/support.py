@@ -1,6 +1,8 @@
 """What the tests share: exact comparison, exact errors, and wrong values of every kind."""
 
 import copy
+import itertools
+import random
 import unittest
 
 NESTED = ()
@@ -80,6 +82,44 @@ def least_basis(space):
 
 def odd(number):
     return bin(number).count("1") % 2
+
+
+def all_differences(width):
+    every = range(1, 1 << width)
+    return [chosen for size in range(1 << width) for chosen in itertools.combinations(every, size)]
+
+
+def sampled_differences(width, most):
+    """Differences of a greater width, the same in each run."""
+    chance = random.Random(15 + width)
+    for size in range(most + 1):
+        yield tuple(sorted(chance.sample(range(1, 1 << width), size)))
+
+
+def differences_for(width):
+    """All differences of a width below 4, some of a greater one."""
+    if width < 4:
+        return all_differences(width)
+    return list(sampled_differences(width, (1 << width) - 1))
+
+
+def all_maps(width, bits):
+    return itertools.product(range(1 << width), repeat=bits)
+
+
+def kernel_set(width, masks):
+    """The addresses with bank 0, straight from the definition."""
+    return frozenset(address for address in range(1 << width) if not any(odd(address & mask) for mask in masks))
+
+
+def by_kernel(width, bits):
+    """The number of maps with so many masks for each kernel, counted one by one."""
+    zeros = [kernel_set(width, (mask,)) for mask in range(1 << width)]
+    counts = {}
+    for masks in all_maps(width, bits):
+        kernel = frozenset(range(1 << width)).intersection(*(zeros[mask] for mask in masks))
+        counts[kernel] = counts.get(kernel, 0) + 1
+    return counts
 
 
 def kinds(value):

@@ -3,41 +3,14 @@ import random
 import unittest
 
 from tests.support import (
-    NO_BITS, NO_INTS, NO_SMALL_WIDTHS, NO_TUPLES, Case, no_addresses, no_differences, odd, spanned)
+    NO_BITS, NO_INTS, NO_SMALL_WIDTHS, NO_TUPLES, Case, all_differences, by_kernel, differences_for, no_addresses,
+    no_differences, sampled_differences, spanned)
 from xorbanks.counting import contracted, count_maps, kernel_counts, least_bits, polynomial, value_at
 from xorbanks.errors import InvalidAddress, InvalidBits, InvalidDifferences, InvalidNumber, InvalidWidth, NotIncluded
 
 LINES = (1, 2, 3)
 OF_TILE = (1, 2, 3, 4, 8, 12)
 OF_DIFFERENCES = (polynomial, least_bits, kernel_counts)
-
-
-def all_differences(width):
-    every = range(1, 1 << width)
-    return [chosen for size in range(1 << width) for chosen in itertools.combinations(every, size)]
-
-
-def sampled_differences(width, most):
-    """Differences of a greater width, the same in each run."""
-    chance = random.Random(15 + width)
-    for size in range(most + 1):
-        yield tuple(sorted(chance.sample(range(1, 1 << width), size)))
-
-
-def cases(width):
-    if width < 4:
-        return all_differences(width)
-    return list(sampled_differences(width, (1 << width) - 1))
-
-
-def by_kernel(width, bits):
-    """The number of maps with so many masks for each kernel, counted one by one."""
-    zeros = [frozenset(a for a in range(1 << width) if not odd(a & mask)) for mask in range(1 << width)]
-    counts = {}
-    for masks in itertools.product(range(1 << width), repeat=bits):
-        kernel = frozenset(range(1 << width)).intersection(*(zeros[mask] for mask in masks))
-        counts[kernel] = counts.get(kernel, 0) + 1
-    return counts
 
 
 def all_spaces(width):
@@ -70,7 +43,7 @@ class Document(Case):
 class AgainstAllMaps(Case):
     def check(self, width, most):
         maps = [by_kernel(width, bits) for bits in range(most + 1)]
-        for differences in cases(width):
+        for differences in differences_for(width):
             free = [
                 sum(count for kernel, count in counts.items() if kernel.isdisjoint(differences)) for counts in maps]
             coefficients = polynomial(width, differences)
@@ -102,7 +75,7 @@ class AgainstAllSpaces(Case):
     def test_kernel_counts(self):
         for width in (1, 2, 3, 4, 5, 6):
             spaces = [(len(space).bit_length() - 1, space) for space in all_spaces(width)]
-            for differences in cases(width):
+            for differences in differences_for(width):
                 expected = [0] * (width + 1)
                 for dimension, space in spaces:
                     if space.isdisjoint(differences):
@@ -138,7 +111,7 @@ class Contracted(Case):
 
     def test_definition_and_polynomials(self):
         for width in (2, 3, 4, 5, 6):
-            for differences in cases(width):
+            for differences in differences_for(width):
                 whole = polynomial(width, differences)
                 for address in differences if width < 5 else differences[::7]:
                     rest = contracted(width, differences, address)

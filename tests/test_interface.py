@@ -51,6 +51,32 @@ INTERFACE = {
         "shows_division": "(width, differences, bits, value)",
         "ends": "(value)",
     },
+    "extending": {
+        "further_bits": "(width, masks, differences)",
+        "count_extensions": "(width, masks, differences, bits)",
+        "extended": "(width, masks, differences)",
+        "useless": "(width, masks, differences)",
+    },
+    "sharing": {
+        "shared_map": "(width, one, other)",
+        "meet": "(width, one, other)",
+        "sum_basis": "(width, one, other)",
+        "block_degree": "(width, masks, vectors)",
+        "is_shared": "(width, masks, *patterns)",
+    },
+    "lightest": {
+        "weight": "(width, masks)",
+        "lightened": "(width, masks)",
+        "least_weight": "(width, differences, bits)",
+        "lightest_map": "(width, differences, bits)",
+    },
+    "best": {
+        "fewest_cycles": "(width, groups, bits)",
+        "quickest_map": "(width, groups, bits)",
+        "least_degree": "(width, groups, bits)",
+        "smoothest_map": "(width, groups, bits)",
+        "trade": "(width, groups)",
+    },
 }
 ERRORS = (
     "BankError InvalidWidth InvalidVectors InvalidMap InvalidAddress InvalidGroup InvalidGroups"

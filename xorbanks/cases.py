@@ -58,6 +58,15 @@ def free_choice(width, differences, bits, decided, new):
     return None
 
 
+def free_map_of(width, differences, bits):
+    """Return a free map with so many masks, None if there is none, for a width from 0."""
+    decided = free_choice(width, differences, bits, NOTHING_CHOSEN, 0)
+    if decided is None:
+        return None
+    units = powers(width)
+    return tuple([sum([unit for unit in units if (decided[unit] >> index) & 1]) for index in range(bits)])
+
+
 def division_of(width, differences, bits, decided, new):
     """Return a division for this choice, None if there is none."""
     zero = decided_zero(differences, decided)
@@ -106,11 +115,7 @@ def count_ints(value):
 def free_map(width, differences, bits):
     """Return a free map with so many masks, None if there is none."""
     check_question(width, differences, bits)
-    decided = free_choice(width, differences, bits, NOTHING_CHOSEN, 0)
-    if decided is None:
-        return None
-    units = powers(width)
-    return tuple([sum([unit for unit in units if (decided[unit] >> index) & 1]) for index in range(bits)])
+    return free_map_of(width, differences, bits)
 
 
 def division(width, differences, bits):

@@ -4,11 +4,10 @@ from xorbanks.checks import check_differences, check_groups, check_map, check_wi
 from xorbanks.maps import bank_of
 
 
-def degree(masks, group):
-    """Return how many addresses of a checked group the fullest bank has."""
+def fullest(banks):
+    """Return how often the most frequent one of some banks occurs."""
     counts = {}
-    for address in group:
-        place = bank_of(masks, address)
+    for place in banks:
         counts[place] = counts.get(place, 0) + 1
     return max(counts.values())
 
@@ -18,7 +17,7 @@ def degrees(width, masks, groups):
     check_width(width)
     check_map(width, masks)
     check_groups(width, groups)
-    return tuple([degree(masks, group) for group in groups])
+    return tuple([fullest([bank_of(masks, address) for address in group]) for group in groups])
 
 
 def cycles(width, masks, groups):

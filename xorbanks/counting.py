@@ -22,15 +22,29 @@ def greater_spaces(width, barred, spaces):
     return greater
 
 
-def counts_of_kernels(width, differences):
-    """Return, for each rank from 0, the number of kernels of free maps with it, for a width from 0."""
+def spaces_without(width, differences):
+    """Return, for each dimension from 0, the spaces that hold none of the differences, for a width from 0.
+
+    Each space is the list of all its addresses.
+    """
     barred = {difference: True for difference in differences}
     spaces = [(0, [0])]
-    counts = [1]
+    found = [spaces]
     for _ in range(width):
         spaces = greater_spaces(width, barred, spaces)
-        counts.append(len(spaces))
+        found.append(spaces)
+    return [[members for _, members in spaces] for spaces in found]
+
+
+def counts_of_kernels(width, differences):
+    """Return, for each rank from 0, the number of kernels of free maps with it, for a width from 0."""
+    counts = [len(spaces) for spaces in spaces_without(width, differences)]
     return tuple(counts[::-1])
+
+
+def least_rank(counts):
+    """Return the least rank for which there is a kernel."""
+    return min([bits for bits, count in enumerate(counts) if count > 0])
 
 
 def polynomial_of(counts):
@@ -79,8 +93,7 @@ def count_maps(width, differences, bits):
 
 def least_bits(width, differences):
     """Return the least number of masks of a free map."""
-    counts = kernel_counts(width, differences)
-    return min([bits for bits, count in enumerate(counts) if count > 0])
+    return least_rank(kernel_counts(width, differences))
 
 
 def kernel_counts(width, differences):

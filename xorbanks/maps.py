@@ -2,7 +2,7 @@
 
 from xorbanks.checks import are_masks, check_address, check_map, check_width
 from xorbanks.errors import Dependent, InvalidMap, NotInvertible
-from xorbanks.vectors import orthogonal, parity, powers, reduced, remainder
+from xorbanks.vectors import independent, orthogonal, parity, powers, reduced, remainder
 
 
 def bank_of(masks, address):
@@ -12,6 +12,11 @@ def bank_of(masks, address):
 
 def are_independent(masks):
     return len(reduced(masks)) == len(masks)
+
+
+def filled(masks, bits):
+    """Return the map of so many masks that begins with these and has the same kernel."""
+    return masks + (0,) * (bits - len(masks))
 
 
 def recoded(masks, others):
@@ -79,12 +84,7 @@ def completed(width, masks):
     check_map(width, masks)
     if not are_independent(masks):
         raise Dependent()
-    result = masks
-    for power in powers(width):
-        longer = result + (power,)
-        if are_independent(longer):
-            result = longer
-    return result
+    return masks + independent(masks, powers(width))
 
 
 def inverse(width, masks):

@@ -42,6 +42,17 @@ def combined(rows):
     return tuple(sorted(made))
 
 
+def independent(known, vectors):
+    """Return those of the vectors that are not in the span of what is known and the vectors ahead."""
+    chosen = []
+    rows = reduced(known)
+    for vector in vectors:
+        if remainder(rows, vector) > 0:
+            chosen.append(vector)
+            rows = reduced(rows + (vector,))
+    return tuple(chosen)
+
+
 def highest_bit(number):
     """Return the value of the highest one bit of an int from 1."""
     return 1 << (number.bit_length() - 1)
