@@ -18,6 +18,10 @@ NO_TUPLES = (
 )
 NO_WIDTHS = (0, 17, 18, -1, -16, 10 ** 30, -10 ** 30) + NO_INTS
 NO_SMALL_WIDTHS = (7, 8, 16) + NO_WIDTHS
+NO_NAMES = (
+    "abcdefghi", "aaaaaaaaaaaaaaaa", "A", "aB", "Zz", "a1", "1", "a b", " a", "a ", "a\n", "\n", "-", "a-b", "_", "a_",
+    "`", "{", "a.b", 0, 1, -1, 97, 10 ** 30,
+) + tuple(value for value in NO_INTS if value != "a")
 NO_BITS = (-1, 17, 18, -16, 10 ** 30, -10 ** 30) + NO_INTS
 
 
@@ -120,6 +124,22 @@ def by_kernel(width, bits):
         kernel = frozenset(range(1 << width)).intersection(*(zeros[mask] for mask in masks))
         counts[kernel] = counts.get(kernel, 0) + 1
     return counts
+
+
+def state_of(layout):
+    """All that a layout tells of itself."""
+    groups = tuple((name, layout.group(name)) for name in layout.names())
+    return (layout.width, layout.masks, layout.bits, layout.names(), layout.groups(), groups, layout.changes())
+
+
+def history_of(layout):
+    """The states of a layout, back to the beginning, from a copy."""
+    other = layout.copy()
+    states = [state_of(other)]
+    for _ in range(layout.changes()):
+        other.undo()
+        states.append(state_of(other))
+    return states
 
 
 def kinds(value):

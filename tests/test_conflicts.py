@@ -152,7 +152,8 @@ class Generator(Case):
     def test_errors_with_the_first_item(self):
         for arguments, error in (
                 ((0, (), ()), InvalidWidth), ((True, [], []), InvalidWidth), ((4, [1], ()), InvalidMap),
-                ((4, (16,), None), InvalidMap), ((4, (), [(1,)]), InvalidGroups), ((4, (), ((1,), (2, 1))), InvalidGroups)):
+                ((4, (16,), None), InvalidMap), ((4, (), [(1,)]), InvalidGroups), ((4, (), ((1,),
+                (2, 1))), InvalidGroups)):
             made = conflicts(*arguments)
             with self.assertRaises(error) as caught:
                 next(made)

@@ -77,6 +77,46 @@ INTERFACE = {
         "smoothest_map": "(width, groups, bits)",
         "trade": "(width, groups)",
     },
+    "trials": {
+        "held_in": "(layout, look)",
+        "tried": "(layout, edits)",
+    },
+    "texts": {
+        "format_map": "(width, masks)",
+        "format_groups": "(width, groups)",
+        "format_polynomial": "(coefficients)",
+        "format_layout": "(layout)",
+        "parse_map": "(width, text)",
+        "parse_groups": "(width, text)",
+        "parse_layout": "(text)",
+    },
+}
+CLASSES = {
+    "layout": {
+        "Layout": {
+            "__init__": "(self, width, *, masks=())",
+            "__eq__": "(self, other)",
+            "set_masks": "(self, masks)",
+            "add_mask": "(self, mask)",
+            "drop_mask": "(self, index)",
+            "put": "(self, name, group)",
+            "drop": "(self, name)",
+            "names": "(self)",
+            "group": "(self, name)",
+            "groups": "(self)",
+            "conflicts": "(self)",
+            "is_free": "(self)",
+            "cycles": "(self)",
+            "missing_bits": "(self)",
+            "undo": "(self)",
+            "changes": "(self)",
+            "copy": "(self)",
+        },
+    },
+    "trials": {
+        "Trial": {"__init__": "(self, layout)", "__enter__": "(self)", "__exit__": "(self, kind, value, trace)"},
+    },
+    "desk": {"Desk": {"__init__": "(self)", "say": "(self, line)"}},
 }
 ERRORS = (
     "BankError InvalidWidth InvalidVectors InvalidMap InvalidAddress InvalidGroup InvalidGroups"
@@ -94,6 +134,24 @@ class Interface(unittest.TestCase):
                 self.assertTrue(inspect.isfunction(function), name)
                 self.assertEqual(function.__module__, module.__name__, name)
                 self.assertEqual(str(inspect.signature(function)), signature, name)
+
+    def test_classes_and_their_methods_are_defined_in_their_files(self):
+        for file, classes in CLASSES.items():
+            module = importlib.import_module("xorbanks." + file)
+            for name, methods in classes.items():
+                made = getattr(module, name)
+                self.assertEqual(made.__module__, module.__name__, name)
+                for method, signature in methods.items():
+                    self.assertIn(method, vars(made), name)
+                    self.assertEqual(str(inspect.signature(vars(made)[method])), signature, method)
+
+    def test_properties_and_class_methods(self):
+        layout = importlib.import_module("xorbanks.layout").Layout
+        for name in ("width", "masks", "bits"):
+            self.assertIsInstance(vars(layout)[name], property)
+            self.assertIsNone(vars(layout)[name].fset)
+        self.assertIsInstance(vars(layout)["of_groups"], classmethod)
+        self.assertEqual(str(inspect.signature(layout.of_groups)), "(width, groups)")
 
     def test_errors_are_defined_in_their_file(self):
         module = importlib.import_module("xorbanks.errors")

@@ -109,6 +109,13 @@ class Language(unittest.TestCase):
                 self.assertNotIsInstance(node.value, (float, complex), place)
                 self.assertNotIn("%", str(node.value), place)
 
+    def test_no_percent_sign_in_a_formatted_string(self):
+        for path in files():
+            text = path.read_text(encoding="utf-8")
+            for node in ast.walk(ast.parse(text)):
+                if isinstance(node, ast.JoinedStr):
+                    self.assertNotIn("%", ast.get_source_segment(text, node), f"{path.name}:{node.lineno}")
+
     def test_builtins(self):
         for place, node in nodes():
             if isinstance(node, ast.Name) and hasattr(builtins, node.id):

@@ -7,6 +7,7 @@ from xorbanks.errors import (
     InvalidGroup,
     InvalidGroups,
     InvalidMap,
+    InvalidNumber,
     InvalidVectors,
     InvalidWidth,
 )
@@ -17,11 +18,17 @@ MOST_VECTORS = 64
 MOST_MASKS = 16
 MOST_IN_GROUP = 64
 MOST_GROUPS = 20
+MOST_LETTERS = 8
+LETTERS = "abcdefghijklmnopqrstuvwxyz"
 
 
 def is_int(value):
     # Python counts True and False among the ints, the document does not.
     return isinstance(value, int) and not isinstance(value, bool)
+
+
+def is_width(value):
+    return is_int(value) and 1 <= value <= MOST_WIDTH
 
 
 def is_address(width, value):
@@ -65,13 +72,20 @@ def are_differences_of(width, value):
     return are_ascending(width, value, 1 << width) and value[:1] != (0,)
 
 
+def is_name(value):
+    """Whether any value is a string of 1 to 8 letters from a to z."""
+    if not isinstance(value, str) or not 1 <= len(value) <= MOST_LETTERS:
+        return False
+    return all([letter in LETTERS for letter in value])
+
+
 def check_width(width):
-    if not is_int(width) or not 1 <= width <= MOST_WIDTH:
+    if not is_width(width):
         raise InvalidWidth(width)
 
 
 def check_small_width(width):
-    if not is_int(width) or not 1 <= width <= MOST_SMALL_WIDTH:
+    if not is_width(width) or width > MOST_SMALL_WIDTH:
         raise InvalidWidth(width)
 
 
@@ -108,3 +122,10 @@ def check_differences(width, differences):
 def check_bits(bits):
     if not is_int(bits) or not 0 <= bits <= MOST_MASKS:
         raise InvalidBits(bits)
+
+
+def check_coefficients(coefficients):
+    if not isinstance(coefficients, tuple) or len(coefficients) == 0:
+        raise InvalidNumber(coefficients)
+    if not all([is_int(coefficient) for coefficient in coefficients]):
+        raise InvalidNumber(coefficients)

@@ -1,6 +1,13 @@
 """How many maps are free for differences, with any number of masks, by one polynomial."""
 
-from xorbanks.checks import check_address, check_bits, check_differences, check_small_width, is_int
+from xorbanks.checks import (
+    check_address,
+    check_bits,
+    check_coefficients,
+    check_differences,
+    check_small_width,
+    is_int,
+)
 from xorbanks.errors import InvalidNumber, InvalidWidth, NotIncluded
 from xorbanks.vectors import highest_bit
 
@@ -74,10 +81,7 @@ def polynomial(width, differences):
 
 def value_at(coefficients, number):
     """Return the value of a polynomial at an int."""
-    if not isinstance(coefficients, tuple) or len(coefficients) == 0:
-        raise InvalidNumber(coefficients)
-    if not all([is_int(coefficient) for coefficient in coefficients]):
-        raise InvalidNumber(coefficients)
+    check_coefficients(coefficients)
     if not is_int(number):
         raise InvalidNumber(number)
     return value_of(coefficients, number)
